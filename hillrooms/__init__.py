@@ -1,0 +1,1 @@
+"""Hillrooms: the least room for programs that are trees."""

@@ -1,0 +1,41 @@
+"""The interface: where each function stands, its arguments, and that nothing handed in is changed."""
+
+import inspect
+import os
+import unittest
+from importlib import import_module
+
+import hillrooms
+
+FUNCTIONS = {
+    "programs": {"made_program": ["thing"], "is_program": ["thing"]},
+    "joints": {"joints": ["program"], "above": ["program"], "names": ["program"]},
+    "reader": {"read": ["text"]},
+    "printer": {"told_text": ["program"]},
+    "sizes": {"sizes": ["program"]},
+    "rooms": {"rooms": ["program"]},
+    "plainly": {"plain": ["program", "inputs"]},
+    "orders": {
+        "is_order": ["program", "order"], "first_order": ["program"], "branchwise": ["program", "order"],
+    },
+}
+
+
+class InterfaceTest(unittest.TestCase):
+
+    def test_each_function_is_defined_in_its_file(self):
+        for module, functions in FUNCTIONS.items():
+            for name, arguments in functions.items():
+                function = getattr(import_module("hillrooms." + module), name)
+                self.assertTrue(inspect.isfunction(function), name)
+                self.assertEqual("hillrooms." + module, function.__module__)
+                self.assertEqual(arguments, list(inspect.signature(function).parameters))
+
+    def test_the_folder_holds_files_of_the_program_alone(self):
+        folder = os.path.dirname(hillrooms.__file__)
+        for name in os.listdir(folder):
+            self.assertTrue(name == "__pycache__" or name.endswith(".py"), name)
+
+
+if __name__ == "__main__":
+    unittest.main()
