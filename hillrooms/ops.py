@@ -32,6 +32,11 @@ def is_number(thing):
     return isinstance(thing, int) and not isinstance(thing, bool)
 
 
+def is_count(thing):
+    """Whether a thing is a number from 0 on."""
+    return is_number(thing) and thing >= 0
+
+
 def is_between(thing, least, most):
     """Whether a thing is a number from least to most."""
     return is_number(thing) and least <= thing <= most

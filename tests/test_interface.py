@@ -18,6 +18,15 @@ FUNCTIONS = {
     "orders": {
         "is_order": ["program", "order"], "first_order": ["program"], "branchwise": ["program", "order"],
     },
+    "heights": {"heights": ["program", "order"], "peak": ["program", "order"]},
+    "hills": {"hills": ["run"]},
+    "follow": {"follows": ["one", "two"]},
+    "weave": {"weave": ["rows"]},
+    "least": {"row_of": ["program", "joint"], "least_peak": ["program"]},
+    "leastorders": {"least_order": ["program"]},
+    "papers": {"paper": ["program"], "paper_right": ["program", "peak", "order", "rows"]},
+    "branches": {"best_branch_peak": ["program"], "best_branch_order": ["program"]},
+    "slides": {"slid": ["program", "order"]},
 }
 
 

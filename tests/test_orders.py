@@ -4,24 +4,14 @@ import random
 import unittest
 from itertools import permutations
 
-from hillrooms.errors import BadOp, BadOrder, BadParts, BadProgram, TooMany
+from hillrooms.errors import BadOrder
 from hillrooms.orders import branchwise, first_order, is_order
 from hillrooms.reader import read
+from tests.refusals import NO_PROGRAMS, NO_SIZES
+from tests.runs import random_order, stands_side_by_side
+from tests.samples import TREE
 from tests.trees import (
-    NO_TRIPLES, Case, bush, chain, count, given, numbered, on, parts_by_number, random_programs, row, sized_programs,
-)
-
-# Joints 0 to 6: joint 1 has the parts 2 and 3, joint 4 the part 5 with the part 6.
-TREE = read("cat(cat([1], [2]), rev(rev([3])))")
-UNSIZED = (
-    read("add([1], [1 2])"), read("rep 2(in a 40)"), read("part 0 2(in a 1)"), read("cat(in a 1, in a 2)"),
-)
-NO_PROGRAMS = (
-    (BadProgram, 0, None),
-    (BadProgram, 2, on("add", row(1), "in xs 1")),
-    (BadOp, 1, on("rev", ("row", (), ()))),
-    (BadParts, 0, on("add", row(1))),
-    (TooMany, 41, chain(41)),
+    NO_TRIPLES, Case, bush, chain, given, on, parts_by_number, random_programs, row, sized_programs,
 )
 
 
@@ -34,31 +24,6 @@ def first_fault(program, order):
         if any(part not in order[:index] for part in parts[number]):
             return index
     return None if len(order) == len(parts) else len(order)
-
-
-def stands_side_by_side(program, order):
-    """Whether each bough's joints stand side by side in an order."""
-    for number, joint in enumerate(numbered(program)):
-        places = sorted(order.index(beneath) for beneath in range(number, number + count(joint)))
-        if places != list(range(places[0], places[0] + len(places))):
-            return False
-    return True
-
-
-def random_order(dice, program, loose):
-    """An order of the program; a loose one takes any joint that may come, another one stays in its branch."""
-    parts = parts_by_number(program)
-    if not loose:
-        def walk(number):
-            beneath = list(parts[number])
-            dice.shuffle(beneath)
-            return [joint for part in beneath for joint in walk(part)] + [number]
-        return tuple(walk(0))
-    found = []
-    while len(found) < len(parts):
-        found.append(dice.choice([number for number in range(len(parts)) if number not in found
-                                  and all(part in found for part in parts[number])]))
-    return tuple(found)
 
 
 class IsOrderTest(Case):
@@ -99,7 +64,7 @@ class IsOrderTest(Case):
         self.assertIs(False, is_order(TREE, tuple(range(9000))))
 
     def test_programs_whose_sizes_are_refused(self):
-        for program in UNSIZED:
+        for _, _, program in NO_SIZES:
             self.assertIs(False, is_order(program, first_order(program)))
 
     def test_programs_that_are_none(self):
@@ -156,7 +121,8 @@ class FirstOrderTest(Case):
             self.assertIs(True, branchwise(program, first_order(program)))
 
     def test_sizes_are_not_looked_at(self):
-        self.assertEqual(((1, 2, 0), (1, 0), (1, 0), (1, 2, 0)), tuple(first_order(program) for program in UNSIZED))
+        orders = [first_order(program) for _, _, program in NO_SIZES]
+        self.assertEqual([(1, 2, 0), (1, 0), (1, 0), (1, 2, 0), (2, 3, 1, 0)], orders)
 
     def test_refusals(self):
         for error, what, thing in NO_PROGRAMS:
@@ -221,12 +187,13 @@ class BranchwiseTest(Case):
         self.assert_refused(BadOrder, 6, branchwise, TREE, (2, 6, 3, 1, 5, 4, 5))
 
     def test_sizes_are_not_looked_at(self):
-        self.assertIs(True, branchwise(UNSIZED[0], (1, 2, 0)))
-        self.assertIs(True, branchwise(UNSIZED[0], (2, 1, 0)))
+        unequal = read("add([1], [1 2])")
+        self.assertIs(True, branchwise(unequal, (1, 2, 0)))
+        self.assertIs(True, branchwise(unequal, (2, 1, 0)))
         program = on("add", on("rev", row(1)), on("rev", row(1, 2)))
         self.assertIs(False, branchwise(program, (2, 4, 1, 3, 0)))
         self.assertIs(True, branchwise(program, (4, 3, 2, 1, 0)))
-        self.assert_refused(BadOrder, 0, branchwise, UNSIZED[0], (0, 1, 2))
+        self.assert_refused(BadOrder, 0, branchwise, unequal, (0, 1, 2))
         self.assert_refused(BadOrder, 2, branchwise, on("cat", given("a", 1), given("a", 2)), (1, 2))
 
     def test_programs_that_are_none_come_first(self):
