@@ -9,6 +9,11 @@ from hillrooms.sizes import sizes
 from hillrooms.weave import weave
 
 
+def bough_row(rows, need, size, joint):
+    """The row of a bough, by the rows of its parts, what its own step needs, and its size."""
+    return hills(weave(rows) + ((need, size, (joint,)),))
+
+
 def bough_rows(program):
     """For each joint the row of its bough."""
     size = sizes(program)
@@ -16,8 +21,8 @@ def bough_rows(program):
     parts = part_numbers(program)
     found = [()] * len(parts)
     for number in reversed(range(len(parts))):
-        woven = weave([found[part] for part in parts[number]])
-        found[number] = hills(woven + ((needs[number], size[number], (number,)),))
+        beneath = [found[part] for part in parts[number]]
+        found[number] = bough_row(beneath, needs[number], size[number], number)
     return tuple(found)
 
 

@@ -27,6 +27,10 @@ FUNCTIONS = {
     "papers": {"paper": ["program"], "paper_right": ["program", "peak", "order", "rows"]},
     "branches": {"best_branch_peak": ["program"], "best_branch_order": ["program"]},
     "slides": {"slid": ["program", "order"]},
+    "stacks": {"stacked": ["program", "order"]},
+    "pools": {"pools": ["program", "order"], "pool_heap": ["program", "order"]},
+    "layings": {"laying_right": ["program", "order", "heap", "laying"]},
+    "machine": {"run": ["heap", "code", "inputs"], "code_right": ["program", "heap", "code", "inputs"]},
 }
 
 

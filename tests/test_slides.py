@@ -1,19 +1,17 @@
 """[16] and [17]: layings in which held values are slid down to make room."""
 
-import random
 import unittest
 
-from hillrooms.branches import best_branch_order
 from hillrooms.heights import peak
-from hillrooms.leastorders import least_order
 from hillrooms.orders import first_order
 from hillrooms.reader import read
 from hillrooms.slides import slid
+from tests.lays import programs_and_orders, right_by_word, used_cells
 from tests.reckoner import worked_out
 from tests.refusals import SizedCase
-from tests.runs import heights_by_word, random_order
+from tests.runs import heights_by_word
 from tests.samples import TREE
-from tests.trees import bush, chain, parts_by_number, sized_programs
+from tests.trees import bush, chain, parts_by_number
 
 
 def slid_by_word(program, order):
@@ -43,15 +41,6 @@ def free_above(heap):
     while many < len(heap) and heap[-1 - many] is None:
         many += 1
     return many
-
-
-def programs_and_orders(seed, how_many):
-    dice = random.Random(seed)
-    found = []
-    for program in sized_programs(seed, how_many, 40):
-        found.append((program, random_order(dice, program, True)))
-        found.append((program, dice.choice((least_order, best_branch_order, first_order))(program)))
-    return found
 
 
 class SlidTest(SizedCase):
@@ -129,30 +118,19 @@ class SlidTest(SizedCase):
 
     def test_all_lies_within_the_heap_and_no_two_things_share_a_cell(self):
         for program, order in programs_and_orders(162, 250) + [(bush(40), first_order(bush(40)))]:
-            self.assert_lies_right(program, order, peak(program, order), slid(program, order))
+            heap = peak(program, order)
+            laying = slid(program, order)
+            self.assertTrue(right_by_word(program, order, heap, laying))
+            self.assertEqual(heap, used_cells(program, laying))
+            self.assert_places_change(laying)
 
-    def assert_lies_right(self, program, order, heap, laying):
-        facts = worked_out(program)
-        parts = parts_by_number(program)
+    def assert_places_change(self, laying):
         places = {}
-        self.assertEqual(order, tuple(step[0] for step in laying))
-        for number, place, room_place, moves in laying:
+        for number, place, _, moves in laying:
             for joint, goal in moves:
                 self.assertNotEqual(goal, places[joint])
                 places[joint] = goal
-                self.assert_apart(heap, [(places[held], facts[held][0]) for held in places])
             places[number] = place
-            size, room, _ = facts[number]
-            if room == 0:
-                self.assertEqual(0, room_place)
-            self.assert_apart(heap, [(places[held], facts[held][0]) for held in places] + [(room_place, room)])
-            for part in parts[number]:
-                del places[part]
-
-    def assert_apart(self, heap, stretches):
-        cells = [cell for place, many in stretches for cell in range(place, place + many)]
-        self.assertEqual(len(cells), len(set(cells)))
-        self.assertTrue(all(0 <= cell < heap for cell in cells))
 
     def test_refusals(self):
         self.assert_orders_refused(slid)
