@@ -90,7 +90,7 @@ def wrong_dos():
     found += spoilt(right_do("hold"), 2, ((-1,), (65,), (4,), (6,), (5, 5), ()))
     # Sizes of values and parts that sizes refuses.
     for op in ("add", "sub", "mul", "dot"):
-        found += [with_thing(right_do(op), 3, parts) for parts in (((0, 4), (4, 3)), ((0, 4), (4, 5)), ((0, 1), (4, 4)))]
+        found += spoilt(right_do(op), 3, (((0, 4), (4, 3)), ((0, 4), (4, 5)), ((0, 1), (4, 4))))
     found += [do("cat", (), ((0, 60), (60, 5))), do("cat", (), ((0, 20),) * 4), do("rep", (2,), ((0, 33),)),
               do("rep", (16,), ((0, 5),)), do("outer", (), ((0, 9), (9, 8))), do("blend", (), ((0, 33), (33, 33)), 33),
               do("part", (0, 5), ((0, 4),)), do("part", (4, 5), ((0, 4),))]

@@ -64,7 +64,8 @@ class CodeRightTest(Case):
         code = (("row", 0, (5, 5)), ("out", 0, 2))
         self.check(True, row(5, 5), 2, code, ())
         self.check(True, given("xs", 2), 2, code, (("xs", (5, 5)),))
-        for inputs in ((), (("ys", (5, 5)),), (("xs", (5,)),), (("xs", (5, 5, 5)),), (("xs", None),), (("xs", (5, -5)),)):
+        for inputs in ((), (("ys", (5, 5)),), (("xs", (5,)),), (("xs", (5, 5, 5)),), (("xs", None),),
+                       (("xs", (5, -5)),)):
             self.check(False, given("xs", 2), 2, code, inputs)
         self.check(False, read("part 0 2(cat(in xs 2, in ys 1))"), 2, code, (("xs", (5, 5)),))
         self.check(True, read("part 0 2(cat(in xs 2, in ys 1))"), 2, code, (("xs", (5, 5)), ("ys", (1,))))

@@ -37,7 +37,8 @@ class RowsOfFormTest(Case):
         self.assert_refused(BadCode, 2, run, 9, (FIRST, FIRST, ("out", 0, 0), None), ())
 
     def test_numbers_that_are_texts(self):
-        for row in (("row", "0", (7,)), ("row", 0, ("7",)), ("out", "0", "1"), ("do", "rev", (), (("0", "1"),), 1, 0, 0)):
+        for row in (("row", "0", (7,)), ("row", 0, ("7",)), ("out", "0", "1"),
+                    ("do", "rev", (), (("0", "1"),), 1, 0, 0)):
             self.assert_refused(BadCode, 0, run, 9, (row, OUT), ())
 
 

@@ -31,6 +31,16 @@ FUNCTIONS = {
     "pools": {"pools": ["program", "order"], "pool_heap": ["program", "order"]},
     "layings": {"laying_right": ["program", "order", "heap", "laying"]},
     "machine": {"run": ["heap", "code", "inputs"], "code_right": ["program", "heap", "code", "inputs"]},
+    "compiler": {"compiled": ["program", "order", "way"]},
+    "company": {"together": ["programs"]},
+    "codetext": {"code_text": ["code"], "code_of": ["text"]},
+    "papertext": {"paper_text": ["paper"], "paper_of": ["text"]},
+}
+
+METHODS = {
+    "__init__": ["self", "program"], "put": ["self", "joint", "program"], "told": ["self", "joint", "told"],
+    "undo": ["self"], "redo": ["self"], "program": ["self"], "peak": ["self"], "order": ["self"],
+    "row": ["self", "joint"], "looks": ["self"],
 }
 
 
@@ -43,6 +53,14 @@ class InterfaceTest(unittest.TestCase):
                 self.assertTrue(inspect.isfunction(function), name)
                 self.assertEqual("hillrooms." + module, function.__module__)
                 self.assertEqual(arguments, list(inspect.signature(function).parameters))
+
+    def test_each_method_of_the_book_is_defined_in_the_class(self):
+        book = import_module("hillrooms.book").Book
+        self.assertEqual("hillrooms.book", book.__module__)
+        for name, arguments in METHODS.items():
+            method = vars(book)[name]
+            self.assertTrue(inspect.isfunction(method), name)
+            self.assertEqual(arguments, list(inspect.signature(method).parameters))
 
     def test_the_folder_holds_files_of_the_program_alone(self):
         folder = os.path.dirname(hillrooms.__file__)

@@ -98,7 +98,8 @@ class RightTest(Case):
         for place in range(8):
             self.check(place >= 2, program, (2, 1, 0), 16, ((2, 0, 0, ()), (1, place, 0, ()), (0, 10, 0, ())))
             # Joint 2, in the cells 5 and 6, is gone when joint 0 is made.
-            self.check(place not in (1, 2, 3), program, (2, 1, 0), 16, ((2, 5, 0, ()), (1, 2, 0, ()), (0, place, 0, ())))
+            laying = ((2, 5, 0, ()), (1, 2, 0, ()), (0, place, 0, ()))
+            self.check(place not in (1, 2, 3), program, (2, 1, 0), 16, laying)
 
     def test_moves(self):
         # Joint 1 of PAIR, in two cells, moves once joint 2 lies in the cells 4 to 6.

@@ -1,5 +1,6 @@
 """The examples of README.md tell what they are said to tell."""
 
+import ast
 import os
 import unittest
 
@@ -11,6 +12,14 @@ def blocks(text):
     return [piece.split("```")[0] for piece in text.split("```python\n")[1:]]
 
 
+def statements(block):
+    """Pairs of a statement and the comment that stands behind it."""
+    lines = block.split("\n")
+    for node in ast.parse(block).body:
+        _, _, comment = lines[node.end_lineno - 1].partition("  # ")
+        yield ast.get_source_segment(block, node), comment.strip()
+
+
 class ReadmeTest(unittest.TestCase):
 
     def test_the_examples(self):
@@ -19,13 +28,16 @@ class ReadmeTest(unittest.TestCase):
         names = {}
         compared = 0
         for block in blocks(text):
-            exec(block, names)
-            for line in block.split("\n"):
-                told, mark, expected = line.partition("  # ")
-                if mark:
-                    expression = told.split(" = ")[-1].strip()
-                    self.assertEqual(eval(expected.strip()), eval(expression, names), line)
-                    compared += 1
+            for statement, comment in statements(block):
+                # A comment that begins with a small letter tells what is done, not a value.
+                if comment == "" or comment[0].islower():
+                    exec(statement, names)
+                    continue
+                target, _, expression = statement.rpartition(" = ")
+                if target:
+                    exec(statement, names)
+                self.assertEqual(eval(comment), eval(target or expression, names), statement)
+                compared += 1
         self.assertGreater(compared, 20)
 
 
