@@ -96,10 +96,14 @@ class Machine:
         self.counts.append(many)
         self.highest = max([self.highest] + [cell + 1 for cell in writes])
 
+    def numbers_at(self, place, k):
+        """The numbers in k held cells from a place on."""
+        return tuple([self.numbers[cell] for cell in range(place, place + k)])
+
     def do_row(self, row):
         """Do a row that can be done."""
         stretches = read_stretches(row)
-        rows = [tuple([self.numbers[cell] for cell in cells_of([stretch])]) for stretch in stretches]
+        rows = [self.numbers_at(place, k) for place, k in stretches]
         for cell in cells_of(stretches):
             del self.numbers[cell]
         if row[0] == "out":
